@@ -1,0 +1,1 @@
+"""Mapwebs: webs of spaces and tables, taken apart into pieces."""
