@@ -51,7 +51,8 @@ def fixed_by_power(prime, poly):
         column = list(rest) + [0] * (size - len(rest))
         column[at] = (column[at] - 1) % prime
         images.append(column)
-    return kernel_rows(prime, size, [[column[at] for column in images] for at in range(size)])
+    rows = [[worths[place] for worths in images] for place in range(size)]
+    return kernel_rows(prime, size, rows)
 
 
 def cut(prime, poly, row):

@@ -30,6 +30,13 @@ class Table:
                 and self.wide == other.wide and self.rows == other.rows)
 
 
+def is_table(prime, high, wide, thing):
+    """Whether a thing is a table of this prime, so high and wide."""
+    if not isinstance(thing, Table) or thing.prime != prime:
+        return False
+    return thing.high == high and thing.wide == wide
+
+
 def table_of(prime, wide, rows):
     """The table of a tuple of right rows, however many and long."""
     # The bounds hold where callers construct a table, not for what is worked out.
