@@ -90,6 +90,8 @@ def prime_divisors(prime, poly):
         else:
             double = common(prime, poly, steep)
             single = divided(prime, poly, double)[0]
-            found.extend([part for part in single_divisors(prime, single) if part not in found])
+            for part in single_divisors(prime, single):
+                if part not in found:
+                    found.append(part)
             poly = double
     return found
