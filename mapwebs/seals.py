@@ -103,12 +103,11 @@ def come_to_noughts(picture, ideal):
     return True
 
 
-def seal(picture):
-    """A triple (ideal, turn, poly) that shows that the picture is a piece, or None."""
+def seal_of(picture, own):
+    """A seal of a picture, of which own are the leadings to itself, or None."""
     place = narrowest(picture.sizes)
     if place is None:
         return None
-    own = leadings(picture, picture)
     tables = [leading[place] for leading in own]
     ground = ground_rows(picture.prime, picture.sizes[place], tables)
     if ground is None:
@@ -124,6 +123,11 @@ def seal(picture):
         if len(poly) == degree + 1 and is_prime_polynomial(picture.prime, poly):
             return ideal, leading, poly
     return None
+
+
+def seal(picture):
+    """A triple (ideal, turn, poly) that shows that the picture is a piece, or None."""
+    return seal_of(picture, leadings(picture, picture))
 
 
 def closed_under(prime, own, ideal, kept):

@@ -139,6 +139,32 @@ def corner(one, other):
     return table_of(one.prime, one.wide + other.wide, tuple(ahead + beneath))
 
 
+def side_by_side(prime, high, tables):
+    """The table of tables that are so high, one behind another."""
+    rows = []
+    for at in range(high):
+        row = []
+        for table in tables:
+            row.extend(table.rows[at])
+        rows.append(tuple(row))
+    return table_of(prime, sum([table.wide for table in tables]), tuple(rows))
+
+
+def stacked(prime, wide, tables):
+    """The table of tables that are so wide, one beneath another."""
+    return table_of(prime, wide, tuple([row for table in tables for row in table.rows]))
+
+
+def rows_between(table, start, end):
+    """The table of the rows from start on to the one ahead of end."""
+    return table_of(table.prime, table.wide, table.rows[start:end])
+
+
+def columns_between(table, start, end):
+    """The table of the columns from start on to the one ahead of end."""
+    return table_of(table.prime, end - start, tuple([row[start:end] for row in table.rows]))
+
+
 def reduced(table):
     """The reduced table whose rows span what the table's rows span."""
     return table_of(table.prime, table.wide, reduced_rows(table.prime, table.rows))

@@ -52,6 +52,9 @@ INTERFACE = {
     "pictures": "Picture beside based",
     "leadings": "is_leading leadings many_leadings behind back",
     "seals": "is_seal is_piece seal",
+    "partings": "parting is_parting alike matched",
+    "forms": "form euler kinds rows endless",
+    "turns": "turn lost turned_leading",
 }
 
 
