@@ -106,7 +106,7 @@ def summed(own, worths):
     return tuple(found)
 
 
-def is_tearing(prime, leading):
+def tears(prime, leading):
     """Whether a leading to itself has more than one prime polynomial, so that it parts the picture."""
     return len(polys_of(powers_at(prime, leading))) > 1
 
@@ -115,14 +115,14 @@ def tearing(picture):
     """A leading to itself that parts a picture which is not empty, or None if this is a piece."""
     own = leadings(picture, picture)
     for leading in own:
-        if is_tearing(picture.prime, leading):
+        if tears(picture.prime, leading):
             return leading
     if seal_of(picture, own) is not None:
         return None
     # Of what is no piece more than a third of all sums are such.
     turn = 1
     leading = summed(own, mixed_worths(picture.prime, len(own), turn))
-    while not is_tearing(picture.prime, leading):
+    while not tears(picture.prime, leading):
         turn = turn + 1
         leading = summed(own, mixed_worths(picture.prime, len(own), turn))
     return leading

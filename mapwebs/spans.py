@@ -35,18 +35,24 @@ def cleared(prime, row, kept):
     return row
 
 
+def keep(prime, row, kept):
+    """Takes a row among the kept ones, which stay reduced: its pivot then, None if they span it."""
+    rest = cleared(prime, row, kept)
+    at = pivot(rest)
+    if at is not None:
+        rest = scaled_row(prime, rest, inverse(prime, rest[at]))
+        for elder in list(kept):
+            if kept[elder][at] != 0:
+                kept[elder] = less(prime, kept[elder], kept[elder][at], rest)
+        kept[at] = rest
+    return at
+
+
 def kept_rows(prime, rows):
     """A dict from pivots to the rows of the reduced table that span what these rows span."""
     kept = {}
     for row in rows:
-        rest = cleared(prime, row, kept)
-        at = pivot(rest)
-        if at is not None:
-            rest = scaled_row(prime, rest, inverse(prime, rest[at]))
-            for elder in list(kept):
-                if kept[elder][at] != 0:
-                    kept[elder] = less(prime, kept[elder], kept[elder][at], rest)
-            kept[at] = rest
+        keep(prime, row, kept)
     return kept
 
 

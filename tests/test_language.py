@@ -55,6 +55,10 @@ INTERFACE = {
     "partings": "parting is_parting alike matched",
     "forms": "form euler kinds rows endless",
     "turns": "turn lost turned_leading",
+    "finite": "piece_of leadings_told counts",
+    "families": "family",
+    "lines": "bar_of bars bars_told reach",
+    "towers": "Tower tower_bars tower_picture exchanged",
 }
 
 
