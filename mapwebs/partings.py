@@ -1,12 +1,13 @@
 """Partings: pictures taken apart into pieces, and pictures that are alike."""
 
 from mapwebs.errors import NoPieces
-from mapwebs.leadings import back, behind, demand_same_web, is_leading, leadings
+from mapwebs.leadings import back, behind, demand_same_web, is_leading, leading_of, leadings, row_of
 from mapwebs.pictures import is_picture, laid_beside, picture_of
 from mapwebs.polynomials import at_table, factors, least_polynomial
 from mapwebs.seals import is_piece, seal_of
-from mapwebs.tables import (columns_between, kernel, plain_of, plus, rows_between, scaled, side_by_side, table_of,
-                            times, turned_about, undone)
+from mapwebs.spans import sum_of_rows
+from mapwebs.tables import (columns_between, kernel, plain_of, rows_between, side_by_side, table_of, times,
+                            turned_about, undone)
 
 MOST_PIECES = 12
 
@@ -79,31 +80,33 @@ def torn(picture, leading):
     return found
 
 
-def mixed_worths(prime, many, turn):
-    """So many worths, other ones for each turn, until all that there are have been told."""
-    bound = 1
-    for _ in range(many):
-        bound = bound * prime
-    # A stride without the prime as a divisor comes to each number below the bound once.
-    stride = bound * 618034 // 1000003
-    stride = stride - stride % prime + 1
-    left = turn * stride % bound
-    worths = []
-    for _ in range(many):
-        worths.append(left % prime)
-        left = left // prime
-    return worths
+def strides(prime, many):
+    """So many worths, one at least, without a pattern: the first one is 1."""
+    found = [1]
+    rest = 618034
+    while len(found) < many:
+        rest = rest * prime
+        found.append(rest // 1000003)
+        rest = rest % 1000003
+    return found
 
 
-def summed(own, worths):
-    """The linear sum of leadings, at least one, each times its worth."""
+def next_worths(prime, worths):
+    """The worths to be tried behind these: taken one behind another, they are all that there are."""
+    # As figures of a number, the first one least, they grow by a stride that the prime does not divide.
     found = []
-    for tables in zip(*own):
-        total = scaled(tables[0], 0)
-        for table, worth in zip(tables, worths):
-            total = plus(total, scaled(table, worth))
-        found.append(total)
-    return tuple(found)
+    over = 0
+    for worth, stride in zip(worths, strides(prime, len(worths))):
+        total = worth + stride + over
+        found.append(total % prime)
+        over = total // prime
+    return found
+
+
+def summed(picture, own, worths):
+    """The linear sum of leadings from the picture to itself, each times its worth."""
+    own_rows = [row_of(leading) for leading in own]
+    return leading_of(picture, picture, sum_of_rows(picture.prime, len(own_rows[0]), worths, own_rows))
 
 
 def tears(prime, leading):
@@ -120,12 +123,10 @@ def tearing(picture):
     if seal_of(picture, own) is not None:
         return None
     # Of what is no piece more than a third of all sums are such.
-    turn = 1
-    leading = summed(own, mixed_worths(picture.prime, len(own), turn))
-    while not tears(picture.prime, leading):
-        turn = turn + 1
-        leading = summed(own, mixed_worths(picture.prime, len(own), turn))
-    return leading
+    worths = next_worths(picture.prime, [0] * len(own))
+    while not tears(picture.prime, summed(picture, own, worths)):
+        worths = next_worths(picture.prime, worths)
+    return summed(picture, own, worths)
 
 
 def taken_apart(picture):

@@ -4,7 +4,7 @@ import unittest
 from itertools import permutations, product
 
 from mapwebs.leadings import back, behind, is_leading, many_leadings
-from mapwebs.partings import alike, is_parting, matched, mixed_worths, parting
+from mapwebs.partings import alike, is_parting, matched, next_worths, parting
 from mapwebs.pictures import Picture, based, beside
 from mapwebs.polynomials import companion, factors, least_polynomial
 from mapwebs.seals import is_piece
@@ -146,7 +146,10 @@ class Partings(Shown, unittest.TestCase):
 
     def test_all_sums_are_tried_in_the_end(self):
         for prime, many in ((2, 1), (2, 6), (3, 4), (5, 3), (13, 2), (7, 1)):
-            told = {tuple(mixed_worths(prime, many, turn)) for turn in range(prime ** many)}
+            worths, told = [0] * many, set()
+            for _ in range(prime ** many):
+                worths = self.same_twice(next_worths, prime, worths)
+                told.add(tuple(worths))
             self.assertEqual(told, set(product(range(prime), repeat=many)))
 
     def test_a_loop_comes_apart_as_its_polynomial(self):
