@@ -23,3 +23,10 @@ def is_column(prime, length, thing):
     if not isinstance(thing, tuple) or len(thing) != length:
         return False
     return all([is_number(prime - 1, item) for item in thing])
+
+
+def is_ascending(most, thing):
+    """Whether a thing is a tuple of ascending numbers up to the most."""
+    if not isinstance(thing, tuple) or not all([is_number(most, item) for item in thing]):
+        return False
+    return all([item < after for item, after in zip(thing, thing[1:])])

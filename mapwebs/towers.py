@@ -1,6 +1,6 @@
 """Towers: things that grow cell by cell, and the bars of their rings."""
 
-from mapwebs.checks import is_number, is_prime
+from mapwebs.checks import is_ascending, is_number, is_prime
 from mapwebs.errors import BadTower, NoExchange, NoNumber, NoPrime, NoStops
 from mapwebs.lines import bar_picture
 from mapwebs.pictures import laid_beside
@@ -29,13 +29,6 @@ class Tower:
 
     def __eq__(self, other):
         return isinstance(other, Tower) and self.cells == other.cells
-
-
-def is_ascending(most, thing):
-    """Whether a thing is a tuple of ascending numbers up to the most."""
-    if not isinstance(thing, tuple) or not all([is_number(most, item) for item in thing]):
-        return False
-    return all([item < after for item, after in zip(thing, thing[1:])])
 
 
 def is_cell(thing):
