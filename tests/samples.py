@@ -109,7 +109,7 @@ class Mixer:
 class Checks:
     """Beside TestCase: one call that must raise just one error, and change nothing."""
 
-    def raises(self, name, call, *arguments, **fields):
+    def raises(self, name, call, /, *arguments, **fields):
         kind = getattr(errors, name)
         before = self.frozen(arguments)
         try:
